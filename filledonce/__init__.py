@@ -1,0 +1,1 @@
+"""Triangles on a grid of samples, each sample owned once."""
