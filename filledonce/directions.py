@@ -1,11 +1,16 @@
 """Directions: their kinds, their shortest points, and their order round."""
 
 from filledonce.errors import NoDirection
-from filledonce.points import Point, as_point
+from filledonce.points import Point, as_point, is_point
 from filledonce.wholes import common_divisor, sign
 
 # The signs of x and y of each kind; the index is the kind.
 SIGNS = ((1, 0), (1, 1), (0, 1), (-1, 1), (-1, 0), (-1, -1), (0, -1), (1, -1))
+
+
+def is_direction(thing):
+    """Tell whether a value is a point, or stands for one, that is not (0, 0)."""
+    return is_point(thing) and as_point(thing).pair() != (0, 0)
 
 
 def as_direction(thing):

@@ -81,7 +81,9 @@ def side(a, b, point):
     """Return a number above 0 for a point left of the way from a to b, 0 for one on its line."""
     start = as_point(a)
     end = as_point(b)
-    return (end - start).cross(as_point(point) - start)
+    place = as_point(point)
+    # Written out, as this is asked far more often than anything else and needs no new points.
+    return (end.x - start.x) * (place.y - start.y) - (end.y - start.y) * (place.x - start.x)
 
 
 def quarter(point):

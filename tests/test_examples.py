@@ -1,11 +1,17 @@
-"""The examples of the document."""
+"""The examples of the document, and those of README.md."""
 
+import doctest
+import pathlib
 import unittest
 
 from filledonce.directions import kind_of, lowest, sorted_around
-from filledonce.errors import NoDirection
+from filledonce.errors import Flat, InvalidHalf, NoDirection
+from filledonce.grids import Grid, Samples, owned
 from filledonce.points import Point
 from filledonce.points import quarter, side
+from filledonce.rules import Half, Table, half_of, table_of
+from filledonce.shifts import owns_shifted, scale_for, shift_of
+from filledonce.triangles import Triangle
 
 
 class StageOneTest(unittest.TestCase):
@@ -26,6 +32,76 @@ class StageOneTest(unittest.TestCase):
         with self.assertRaises(NoDirection) as caught:
             kind_of((0, 0))
         self.assertEqual(caught.exception.thing, (0, 0))
+
+
+class StageTwoTest(unittest.TestCase):
+    def test_tables_and_halves(self):
+        table = Table([True, True, True, True, False, False, False, False])
+        half = half_of(table)
+        self.assertEqual(
+            [table((5, 1)), table((-2, 0)), len(table), half.way.pair(), half.ahead, table_of(Half((2, 2), True)),
+             (~table).kinds()],
+            [True, False, 4, (1, 0), True, None, [False, False, False, False, True, True, True, True]])
+
+    def test_no_half(self):
+        with self.assertRaises(InvalidHalf) as caught:
+            Half((0, 0), True)
+        self.assertEqual(caught.exception.part, "way")
+
+    def test_order(self):
+        self.assertEqual(
+            [Table.nothing() <= Half((1, 2), True), Half((1, 0), True) <= ~Table.nothing(),
+             Half((3, 1), True) <= Half((6, 2), True), Half((3, 1), True) <= Half((3, 1), False)],
+            [True, True, True, False])
+
+
+class StageThreeTest(unittest.TestCase):
+    def test_triangle(self):
+        triangle = Triangle((0, 0), (0, 4), (4, 0))
+        self.assertEqual(
+            [[corner.pair() for corner in triangle.corners()], triangle.area2, (2, 2) in triangle, (3, 2) in triangle,
+             triangle == Triangle((4, 0), (0, 4), (0, 0))],
+            [[(0, 0), (4, 0), (0, 4)], 16, True, False, True])
+
+    def test_flat(self):
+        self.assertRaises(Flat, Triangle, (0, 0), (1, 1), (2, 2))
+
+    def test_owned(self):
+        triangle = Triangle((0, 0), (2, 0), (0, 2))
+        self.assertEqual(
+            [[point.pair() for point in owned(rule, triangle, Grid.unit()).points()]
+             for rule in [Half((1, 0), True), Half((1, 0), False)]],
+            [[(1, 0), (2, 0), (1, 1)], [(1, 1)]])
+
+    def test_grids_and_samples(self):
+        grid = Grid(3, (1, -1))
+        a, b = Samples([(1, 2), (0, 0), (1, 2)]), Samples([(0, 0), (5, 5)])
+        self.assertEqual(
+            [[point.pair() for point in grid.between((0, 0), (5, 5))], (7, 8) in grid,
+             [point.pair() for point in (a | b).points()], len(a & b), len(a - b)],
+            [[(1, 2), (4, 2), (1, 5), (4, 5)], True, [(0, 0), (1, 2), (5, 5)], 1, 1])
+
+
+class StageFourTest(unittest.TestCase):
+    def test_shifts(self):
+        half, triangle = Half((1, 0), True), Triangle((0, 0), (2, 0), (0, 2))
+        scale = scale_for(half, triangle, (1, 0))
+        self.assertEqual(
+            [[point.pair() for point in shift_of(half)], owns_shifted(half, triangle, (1, 0), scale),
+             owns_shifted(half, triangle, (1, 1), scale)],
+            [[(-1, 0), (0, 1)], True, True])
+
+
+class ReadmeTest(unittest.TestCase):
+    def test_examples(self):
+        path = pathlib.Path(__file__).resolve().parent.parent / "README.md"
+        # A fence behind an example would be read as a part of what it shows.
+        text = path.read_text().replace("```", "")
+        examples = doctest.DocTestParser().get_doctest(text, {}, "README.md", "README.md", 0)
+        written = []
+        found = doctest.DocTestRunner(verbose=False).run(examples, out=written.append)
+        self.assertGreater(found.attempted, 0)
+        self.assertEqual(found.failed, 0, "".join(written))
 
 
 if __name__ == "__main__":

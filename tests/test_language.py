@@ -79,6 +79,83 @@ class LanguageTest(unittest.TestCase):
                     if isinstance(node.value, str):
                         self.assertNotIn("%", node.value, path)
 
+    def test_is_asks_for_none_and_truths_only(self):
+        for path in files():
+            for node in nodes(path):
+                if isinstance(node, ast.Compare) and any(isinstance(sign, (ast.Is, ast.IsNot)) for sign in node.ops):
+                    for right in node.comparators:
+                        self.assertIn(getattr(right, "value", right), [None, True, False], path)
+
+    def test_sorted_min_and_max_take_plain_numbers(self):
+        # Rules and samples have an order, so nothing else is sorted.
+        for path in files():
+            for node in nodes(path):
+                if isinstance(node, ast.Call) and getattr(node.func, "id", None) in ["sorted", "min", "max"]:
+                    self.assertIsInstance(node.args[0], ast.ListComp, (path, node.lineno))
+                    self.assertEqual(ast.unparse(node.args[0].elt).split("(")[0], "int", (path, node.lineno))
+                if isinstance(node, ast.Attribute):
+                    self.assertNotEqual(node.attr, "sort", (path, node.lineno))
+
+    def test_no_generator_expressions(self):
+        for path in files():
+            for node in nodes(path):
+                self.assertNotIsInstance(node, ast.GeneratorExp, path)
+
+    def test_what_has_items_says_how_it_is_iterated_over(self):
+        for path in files():
+            for node in nodes(path):
+                if isinstance(node, ast.ClassDef):
+                    names = [row.name for row in node.body if isinstance(row, ast.FunctionDef)]
+                    self.assertTrue("__getitem__" not in names or "__iter__" in names, (path, node.name))
+
+    def test_no_name_is_a_method_and_an_attribute(self):
+        methods = set()
+        properties = set()
+        attributes = set()
+        for path in files():
+            for node in nodes(path):
+                if isinstance(node, ast.ClassDef):
+                    for row in [row for row in node.body if isinstance(row, ast.FunctionDef)]:
+                        told = [ast.unparse(one) for one in row.decorator_list]
+                        has_property = "property" in told or f"{row.name}.setter" in told
+                        (properties if has_property else methods).add(row.name)
+                if isinstance(node, ast.Attribute) and isinstance(node.ctx, ast.Store):
+                    attributes.add(node.attr)
+        self.assertEqual(methods & (attributes | properties), set())
+
+    def test_names_mean_one_thing_in_a_file(self):
+        for path in files():
+            bound = set()
+            for node in ast.parse(path.read_text()).body:
+                if isinstance(node, ast.ClassDef):
+                    bound.add(node.name)
+                if isinstance(node, ast.ImportFrom):
+                    bound.update(name.asname or name.name for name in node.names)
+            for node in nodes(path):
+                stored = isinstance(node, ast.Name) and isinstance(node.ctx, ast.Store)
+                name = node.id if stored else getattr(node, "arg", None)
+                if name is not None:
+                    self.assertNotIn(name, bound, path)
+                    self.assertFalse(hasattr(builtins, name), (path, name))
+
+    def test_what_is_imported_is_used(self):
+        for path in files():
+            used = {node.id for node in nodes(path) if isinstance(node, ast.Name)}
+            for node in nodes(path):
+                if isinstance(node, ast.ImportFrom):
+                    for name in node.names:
+                        self.assertIn(name.name, used, path)
+
+    def test_no_two_files_import_each_other(self):
+        needs = {}
+        for path in files():
+            needs[path.stem] = {node.module.split(".")[1] for node in nodes(path) if isinstance(node, ast.ImportFrom)}
+        while needs:
+            free = [name for name, others in needs.items() if not others & set(needs)]
+            self.assertNotEqual(free, [], needs)
+            for name in free:
+                del needs[name]
+
 
 if __name__ == "__main__":
     unittest.main()
