@@ -48,10 +48,15 @@ def owns(rule, triangle, point):
     """Tell whether a rule owns a point in a triangle."""
     place = as_point(point)
     for a, b in triangle.edges():
-        turn = side(a, b, place)
-        if turn < 0 or (turn == 0 and not rule(b - a)):
+        if not is_left(rule, a, b, place):
             return False
     return True
+
+
+def is_left(rule, a, b, place):
+    """Tell whether a point is left of the way from a to b, or on its line with the way in the rule."""
+    turn = side(a, b, place)
+    return turn > 0 or (turn == 0 and rule(b - a))
 
 
 def apart(one, other):

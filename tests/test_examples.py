@@ -5,13 +5,17 @@ import pathlib
 import unittest
 
 from filledonce.directions import kind_of, lowest, sorted_around
-from filledonce.errors import Flat, InvalidHalf, NoDirection
+from filledonce.errors import Flat, InvalidHalf, NoDirection, Overlap
 from filledonce.grids import Grid, Samples, owned
+from filledonce.meshes import Mesh, inside, judged, owners
+from filledonce.nets import Net, counted_owners, rim_turns, signed, snapped
 from filledonce.points import Point
 from filledonce.points import quarter, side
+from filledonce.rings import Ring, filled
 from filledonce.rules import Half, Table, half_of, table_of
 from filledonce.shifts import owns_shifted, scale_for, shift_of
 from filledonce.triangles import Triangle
+from filledonce.witnesses import faulty, is_right, shows
 
 
 class StageOneTest(unittest.TestCase):
@@ -90,6 +94,53 @@ class StageFourTest(unittest.TestCase):
             [[point.pair() for point in shift_of(half)], owns_shifted(half, triangle, (1, 0), scale),
              owns_shifted(half, triangle, (1, 1), scale)],
             [[(-1, 0), (0, 1)], True, True])
+
+
+class StageFiveTest(unittest.TestCase):
+    def test_mesh(self):
+        mesh = Mesh([Triangle((0, 0), (4, 0), (0, 4)), Triangle((4, 0), (4, 4), (0, 4))])
+        lost, doubled = judged(Table.nothing(), mesh, Grid.unit())
+        self.assertEqual(
+            [inside(mesh, (2, 2)), inside(mesh, (0, 2)), owners(Half((0, 1), True), mesh, (2, 2)),
+             [point.pair() for point in lost.points()], len(doubled)],
+            [True, False, [0], [(3, 1), (2, 2), (1, 3)], 0])
+
+    def test_overlap(self):
+        with self.assertRaises(Overlap) as caught:
+            Mesh([Triangle((0, 0), (4, 0), (0, 4)), Triangle((1, 1), (5, 1), (1, 5))])
+        self.assertEqual((caught.exception.number, caught.exception.other), (1, 0))
+
+
+class StageSixTest(unittest.TestCase):
+    def test_witnesses(self):
+        table = Table([True, False, True, False, True, False, True, False])
+        mesh, point = faulty(table)
+        self.assertEqual(
+            [is_right(table), len(mesh), shows(table, mesh, point), is_right(Half((5, 3), False)),
+             faulty(Half((5, 3), False))],
+            [False, 2, True, True, None])
+
+
+class StageSevenTest(unittest.TestCase):
+    def test_net(self):
+        net = Net([(0, 0), (4, 0), (0, 4), (1, 1)], [(0, 1, 3), (1, 2, 3), (2, 0, 3)])
+        half = Half((1, 0), True)
+        net[3] = (9, 9)
+        self.assertEqual(
+            [net.rim(), counted_owners(half, net, (5, 5)), signed(half, net, (1, 1)), rim_turns(half, net, (1, 1))],
+            [[(0, 1), (1, 2), (2, 0)], (1, 1), 1, 1])
+
+    def test_snapped(self):
+        self.assertEqual([point.pair() for point in snapped(Net([(5, -5), (6, 2)], []), 4).points()], [(4, -4), (8, 4)])
+
+
+class StageEightTest(unittest.TestCase):
+    def test_ring(self):
+        ring, half = Ring([(0, 0), (2, 0), (2, 2), (0, 2)]), Half((1, 0), True)
+        self.assertEqual(
+            [ring.area2, ring.turns(half, (1, 1)), ring.turned().turns(half, (1, 1)),
+             [point.pair() for point in filled(half, ring, Grid.unit()).points()]],
+            [8, 1, -1, [(1, 0), (2, 0), (1, 1), (2, 1)]])
 
 
 class ReadmeTest(unittest.TestCase):

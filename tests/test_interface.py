@@ -12,6 +12,11 @@ FUNCTIONS = {
     "grids": {"owned": "rule, triangle, grid"},
     "shifts": {"shift_of": "half", "owns_shifted": "half, triangle, point, scale",
                "scale_for": "half, triangle, point"},
+    "meshes": {"inside": "mesh, point", "owners": "rule, mesh, point", "judged": "rule, mesh, grid"},
+    "witnesses": {"is_right": "rule", "shows": "rule, mesh, point", "faulty": "rule"},
+    "nets": {"signed": "half, net, point", "turns": "half, ways, point", "rim_turns": "half, net, point",
+             "counted_owners": "half, net, point", "snapped": "net, many", "unlike": "half, one, other, grid"},
+    "rings": {"filled": "half, ring, grid, *, odd=False"},
 }
 
 METHODS = {
@@ -26,12 +31,18 @@ METHODS = {
     "grids": {"Grid": {"__init__": "step, at", "between": "low, high", "__contains__": None, "__eq__": None},
               "Samples": {"__init__": "points", "points": "", "__len__": None, "__contains__": None, "__or__": None,
                           "__and__": None, "__sub__": None, "__le__": None, "__eq__": None}},
+    "meshes": {"Mesh": {"__init__": "triangles", "triangles": "", "__len__": None, "__getitem__": None,
+                        "__setitem__": None, "__eq__": None}},
+    "nets": {"Net": {"__init__": "points, triples", "points": "", "triples": "", "rim": "", "twin": "",
+                     "__len__": None, "__getitem__": None, "__setitem__": None, "__eq__": None}},
+    "rings": {"Ring": {"__init__": "points", "points": "", "ways": "", "turned": "", "turns": "half, point",
+                       "fan": "point", "__len__": None, "__eq__": None}},
 }
 
 STATIC = [("points", "Point", "origin"), ("rules", "Table", "nothing"), ("grids", "Grid", "unit")]
 
 PROPERTIES = [("rules", "Half", "way", True), ("rules", "Half", "ahead", True),
-              ("triangles", "Triangle", "area2", False)]
+              ("triangles", "Triangle", "area2", False), ("rings", "Ring", "area2", False)]
 
 GENERATORS = [("rules", "all_tables"), ("grids", "Grid.between")]
 

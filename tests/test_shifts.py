@@ -87,6 +87,16 @@ class ScaleTest(Case):
                 for point in square(-3, 7):
                     self.assert_right_from_the_scale_on(half, Triangle(*three), point, [0, 1, 2, 29, GREAT])
 
+    def test_points_close_to_a_long_edge(self):
+        # The sums of its corners are far shorter than its edges.
+        triangle = Triangle((-50, -31), (51, 30), (0, 5))
+        close = [(x, y) for x in range(-50, 52) for y in range(-31, 31)
+                 if any(abs((b - a).cross((x, y) - a)) <= 2 for a, b in triangle.edges())]
+        self.assertGreater(len(close), 20)
+        for half in [Half(way, ahead) for way in [(-3, 5), (3, -5), (5, 3)] for ahead in TRUTHS]:
+            for point in close:
+                self.assert_right_from_the_scale_on(half, triangle, point, [0, 1, GREAT])
+
     def test_points_and_pairs_are_alike(self):
         half, triangle = Half((2, -3), True), Triangle(*THREES[1])
         self.assertEqual(scale_for(half, triangle, (3, 2)), scale_for(half, triangle, Point(3, 2)))
