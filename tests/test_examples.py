@@ -4,6 +4,8 @@ import doctest
 import pathlib
 import unittest
 
+from filledonce.bits import least_bits, shows_bits, wrapped
+from filledonce.counting import amount, floor_sum, twin_of
 from filledonce.directions import kind_of, lowest, sorted_around
 from filledonce.errors import Flat, InvalidHalf, NoDirection, Overlap
 from filledonce.grids import Grid, Samples, owned
@@ -14,7 +16,9 @@ from filledonce.points import quarter, side
 from filledonce.rings import Ring, filled
 from filledonce.rules import Half, Table, half_of, table_of
 from filledonce.shifts import owns_shifted, scale_for, shift_of
+from filledonce.spans import Spans
 from filledonce.triangles import Triangle
+from filledonce.values import value_at, weights
 from filledonce.witnesses import faulty, is_right, shows
 
 
@@ -141,6 +145,38 @@ class StageEightTest(unittest.TestCase):
             [ring.area2, ring.turns(half, (1, 1)), ring.turned().turns(half, (1, 1)),
              [point.pair() for point in filled(half, ring, Grid.unit()).points()]],
             [8, 1, -1, [(1, 0), (2, 0), (1, 1), (2, 1)]])
+
+
+class StageNineTest(unittest.TestCase):
+    def test_spans(self):
+        triangle = Triangle((0, 0), (4, 0), (0, 4))
+        right, wrong = Spans(True, False, True, False), Spans(True, True, True, False)
+        self.assertEqual(
+            [right.takes(triangle, (0, 0)), right.takes(triangle, (2, 2)), wrong.takes(triangle, (2, 2)),
+             right.is_right, wrong.is_right, right.half().way.pair(), wrong.half()],
+            [True, False, True, True, False, (-1, 0), None])
+
+
+class StageTenTest(unittest.TestCase):
+    def test_counting(self):
+        triangle, half = Triangle((0, 0), (10 ** 15, 0), (0, 10 ** 15)), Half((1, 0), True)
+        self.assertEqual(
+            [floor_sum(4, 3, 1, 2), amount(half, Triangle((0, 0), (2, 0), (0, 2)), Grid.unit()),
+             amount(half, triangle, Grid.unit()) + amount(half, twin_of(triangle), Grid.unit()) == 10 ** 30],
+            [10, 3, True])
+
+
+class StageElevenTest(unittest.TestCase):
+    def test_bits(self):
+        self.assertEqual(
+            [wrapped(9, 4), wrapped(-9, 4), least_bits(1), least_bits(7), wrapped(shows_bits(7).area2, 6) < 0],
+            [-7, 7, 2, 7, True])
+
+    def test_values(self):
+        triangle = Triangle((0, 0), (4, 0), (0, 4))
+        self.assertEqual(
+            [weights(triangle, (1, 1)), value_at(triangle, [0, 4, 8], (1, 1)), value_at(triangle, [1, 2, 4], (1, 2))],
+            [(8, 4, 4), (3, 1), (11, 4)])
 
 
 class ReadmeTest(unittest.TestCase):

@@ -17,6 +17,10 @@ FUNCTIONS = {
     "nets": {"signed": "half, net, point", "turns": "half, ways, point", "rim_turns": "half, net, point",
              "counted_owners": "half, net, point", "snapped": "net, many", "unlike": "half, one, other, grid"},
     "rings": {"filled": "half, ring, grid, *, odd=False"},
+    "counting": {"floor_sum": "many, top, add, bottom", "amount": "rule, triangle, grid, *, low=None, high=None",
+                 "twin_of": "triangle"},
+    "bits": {"wrapped": "number, bits", "least_bits": "most", "shows_bits": "most"},
+    "values": {"weights": "triangle, point", "value_at": "triangle, values, point"},
 }
 
 METHODS = {
@@ -37,12 +41,15 @@ METHODS = {
                      "__len__": None, "__getitem__": None, "__setitem__": None, "__eq__": None}},
     "rings": {"Ring": {"__init__": "points", "points": "", "ways": "", "turned": "", "turns": "half, point",
                        "fan": "point", "__len__": None, "__eq__": None}},
+    "spans": {"Spans": {"__init__": "left, right, bottom, top", "takes": "triangle, point", "filled": "triangle, grid",
+                        "half": "", "faulty": "", "__eq__": None}},
 }
 
 STATIC = [("points", "Point", "origin"), ("rules", "Table", "nothing"), ("grids", "Grid", "unit")]
 
 PROPERTIES = [("rules", "Half", "way", True), ("rules", "Half", "ahead", True),
-              ("triangles", "Triangle", "area2", False), ("rings", "Ring", "area2", False)]
+              ("triangles", "Triangle", "area2", False), ("rings", "Ring", "area2", False),
+              ("spans", "Spans", "is_right", False)]
 
 GENERATORS = [("rules", "all_tables"), ("grids", "Grid.between")]
 
