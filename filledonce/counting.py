@@ -39,7 +39,7 @@ def amount(rule, triangle, grid, *, low=None, high=None):
         if bound is not None and not is_whole(bound):
             raise InvalidNumber(bound)
     heights = {corner.y: True for corner in triangle.corners()}
-    levels = sorted([int(y) for y in heights])
+    levels = sorted([int(height) for height in heights])
     least = levels[0] if low is None else low
     most = levels[-1] if high is None else high
     total = 0
@@ -48,14 +48,14 @@ def amount(rule, triangle, grid, *, low=None, high=None):
             total += row_amount(rule, triangle, grid, y)
     # Between the rows of two corners one edge makes all left ends and one all right ends.
     for under, over in zip(levels, levels[1:]):
-        start = max([int(y) for y in (under + 1, least)])
-        end = min([int(y) for y in (over - 1, most)])
+        start = max([int(row) for row in (under + 1, least)])
+        end = min([int(row) for row in (over - 1, most)])
         total += strip_amount(rule, triangle, grid, start, end)
     return total
 
 
 def limit_of(rule, a, b, grid, y):
-    """Return what an edge leaves for the samples of a row: for those that the rule owns it is not used up.
+    """Return what an edge leaves for the samples of a row: one that uses up more is not owned.
 
     The samples of a row stand at base.x + step * i, and each i uses up step times the height of the edge. So, divided
     by this and rounded down, it is the greatest i at an edge that goes up, the greatest -i at one that goes down.
