@@ -5,12 +5,16 @@ import pathlib
 import unittest
 
 from filledonce.bits import least_bits, shows_bits, wrapped
+from filledonce.consoles import Console
 from filledonce.counting import amount, floor_sum, twin_of
 from filledonce.directions import kind_of, lowest, sorted_around
 from filledonce.errors import Flat, InvalidHalf, NoDirection, Overlap
 from filledonce.grids import Grid, Samples, owned
+from filledonce.histories import History, tried
 from filledonce.meshes import Mesh, inside, judged, owners
+from filledonce.moves import Moves
 from filledonce.nets import Net, counted_owners, rim_turns, signed, snapped
+from filledonce.papers import check, paper_of
 from filledonce.points import Point
 from filledonce.points import quarter, side
 from filledonce.rings import Ring, filled
@@ -177,6 +181,41 @@ class StageElevenTest(unittest.TestCase):
         self.assertEqual(
             [weights(triangle, (1, 1)), value_at(triangle, [0, 4, 8], (1, 1)), value_at(triangle, [1, 2, 4], (1, 2))],
             [(8, 4, 4), (3, 1), (11, 4)])
+
+    def test_papers(self):
+        mesh = Mesh([Triangle((0, 0), (4, 0), (0, 4)), Triangle((4, 0), (4, 4), (0, 4))])
+        samples, half = Samples([(1, 1), (2, 2), (0, 0)]), Half((0, 1), True)
+        paper = paper_of(half, mesh, samples)
+        self.assertEqual(
+            [[(point.pair(), number) for point, number in paper], check(half, mesh, samples, paper)],
+            [[((1, 1), 0), ((2, 2), 0)], 2])
+
+
+class StageTwelveTest(unittest.TestCase):
+    def test_moves(self):
+        net = Net([(0, 0), (4, 0), (0, 4), (5, 5)], [(0, 1, 2), (1, 3, 2), (0, 1, 2)])
+        moves = Moves(net, [(3, (6, 6)), (0, (9, 9))])
+        half, samples = Half((1, 0), True), Samples([(1, 1)])
+        self.assertEqual(
+            [moves.least(half, samples), [point.pair() for point in moves.faults(half, samples, ())],
+             moves.behind((0,))[3].pair()],
+            [[(1,)], [(1, 1)], (6, 6)])
+
+
+class StageThirteenTest(unittest.TestCase):
+    def test_history(self):
+        history = History(Net([(0, 0), (4, 0), (0, 4)], [(0, 1, 2)]))
+        before = history.move(0, (1, 1)).pair()
+        found = tried(history, [('undo', 1), ('keep', 'm')])
+        self.assertEqual([before, found, len(history), history.kept(), history.net_now()[0].pair()],
+                         [(0, 0), [0, None], 1, [], (1, 1)])
+
+    def test_console(self):
+        console = Console(Net([(0, 0), (4, 0), (0, 4)], [(0, 1, 2)]), Half((1, 0), True))
+        self.assertEqual(
+            [console.execute(row) for row in ['rim', 'count 1 1', 'move 1 0 -4', 'count 1 1', 'owners -1 -1', 'point 1',
+                                              'undo 1']],
+            ['0>1 1>2 2>0', '1', '4 0', '0', '0 0', '0 -4', '0'])
 
 
 class ReadmeTest(unittest.TestCase):

@@ -21,6 +21,9 @@ FUNCTIONS = {
                  "twin_of": "triangle"},
     "bits": {"wrapped": "number, bits", "least_bits": "most", "shows_bits": "most"},
     "values": {"weights": "triangle, point", "value_at": "triangle, values, point"},
+    "papers": {"check": "rule, mesh, samples, paper", "paper_of": "rule, mesh, samples"},
+    "moves": {"is_clean": "half, net, samples"},
+    "histories": {"tried": "history, calls, *, fast=False"},
 }
 
 METHODS = {
@@ -43,6 +46,12 @@ METHODS = {
                        "fan": "point", "__len__": None, "__eq__": None}},
     "spans": {"Spans": {"__init__": "left, right, bottom, top", "takes": "triangle, point", "filled": "triangle, grid",
                         "half": "", "faulty": "", "__eq__": None}},
+    "moves": {"Moves": {"__init__": "net, menu", "behind": "picks", "good": "half, samples", "least": "half, samples",
+                        "faults": "half, samples, picks", "__len__": None}},
+    "histories": {"History": {"__init__": "net", "move": "index, point", "undo": "many", "redo": "many",
+                              "turn": "name", "keep": "name", "moves": "", "kept": "", "net_now": "", "__len__": None},
+                  "Trial": {"__init__": "history", "__enter__": "", "__exit__": None, "hold_fast": ""}},
+    "consoles": {"Console": {"__init__": "net, half", "execute": "row"}},
 }
 
 STATIC = [("points", "Point", "origin"), ("rules", "Table", "nothing"), ("grids", "Grid", "unit")]
@@ -51,7 +60,7 @@ PROPERTIES = [("rules", "Half", "way", True), ("rules", "Half", "ahead", True),
               ("triangles", "Triangle", "area2", False), ("rings", "Ring", "area2", False),
               ("spans", "Spans", "is_right", False)]
 
-GENERATORS = [("rules", "all_tables"), ("grids", "Grid.between")]
+GENERATORS = [("rules", "all_tables"), ("grids", "Grid.between"), ("moves", "Moves.good")]
 
 
 def module_of(name):

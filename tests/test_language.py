@@ -101,6 +101,28 @@ class LanguageTest(unittest.TestCase):
             for node in nodes(path):
                 self.assertNotIsInstance(node, ast.GeneratorExp, path)
 
+    def test_no_other_function_has_the_name_of_a_generator(self):
+        every = [(path.stem, node) for path in files() for node in nodes(path) if isinstance(node, ast.FunctionDef)]
+        names = [node.name for _, node in every]
+        for file, node in every:
+            if any(isinstance(part, (ast.Yield, ast.YieldFrom)) for part in ast.walk(node)):
+                self.assertEqual(names.count(node.name), 1, (file, node.name))
+
+    def test_exponents_are_written_out(self):
+        for path in files():
+            for node in nodes(path):
+                if isinstance(node, ast.BinOp) and isinstance(node.op, ast.Pow):
+                    self.assertIsInstance(node.right, ast.Constant, path)
+
+    def test_what_leaves_a_block_only_assigns_attributes(self):
+        for path in files():
+            for node in nodes(path):
+                if isinstance(node, ast.FunctionDef) and node.name == "__exit__":
+                    for part in ast.walk(node):
+                        self.assertNotIsInstance(part, (ast.Call, ast.BinOp, ast.For, ast.While, ast.Raise), path)
+                        if isinstance(part, ast.Assign):
+                            self.assertIsInstance(part.targets[0], ast.Attribute, path)
+
     def test_what_has_items_says_how_it_is_iterated_over(self):
         for path in files():
             for node in nodes(path):
